@@ -1,0 +1,1 @@
+"""Fullorring: which tables deal evenly, whoever draws first."""

@@ -15,6 +15,20 @@ INTERFACE = {
     ],
     "texts": ["table_text(table)", "dealing_text(dealing)"],
     "reading": ["read_table(text)", "read_dealing(text)"],
+    "dealings": ["dealing(table)", "short_lot(table)", "is_dealing(table, thing)", "is_short_lot(table, thing)"],
+    "numbers": [
+        "many_dealings(table)", "dealing_number(table, dealing)", "many_with(table, lot)", "dealing_at(table, number)",
+        "all_dealings(table)",
+    ],
+    "pieces": [
+        "idle_ties(table)", "sure_ties(table)", "pieces(table)", "piece_kinds(table)",
+        "filled_lot(table, person, thing)", "is_filled_lot(table, person, thing, lot)", "round_of(table, number)",
+    ],
+    "standings": [
+        "is_standing(table, thing)", "is_sound(table, thing)", "many_after(table, standing)",
+        "open_things(table, standing, person)", "left_things(table, standing, person)",
+        "open_people(table, standing, thing)", "known_of(table, standing, person)", "settled(table, standing)",
+    ],
 }
 
 

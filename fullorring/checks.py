@@ -1,6 +1,6 @@
 """What a thing that was passed is, whatever it is; the thing that is judged comes last."""
 
-from fullorring.errors import NoPerson, NoThing
+from fullorring.errors import NoCustom, NoPerson, NoThing, NoTurn
 
 
 def is_integer(thing):
@@ -38,3 +38,15 @@ def check_thing(table, thing):
     """Raise NoThing for what is no number of a thing."""
     if not is_number(table.size, thing):
         raise NoThing()
+
+
+def check_turn(table, turn):
+    """Raise NoTurn for what is no tuple of all people, each once."""
+    if not is_renumbering(table.size, turn):
+        raise NoTurn()
+
+
+def check_custom(customs, custom):
+    """Raise NoCustom for what is none of the strings."""
+    if not isinstance(custom, str) or custom not in customs:
+        raise NoCustom()

@@ -34,6 +34,11 @@ def left_of(row, standing):
     return [thing for thing in row if thing not in standing]
 
 
+def with_drawn(standing, person, thing):
+    """The standing behind one person's drawing more."""
+    return standing[:person] + (thing,) + standing[person + 1:]
+
+
 def many_after(table, standing):
     """How many dealings have all things of a standing."""
     _check_standing(table, standing)

@@ -1,6 +1,8 @@
 """What the tests share: a plain listing of all dealings, many tables, and things of every kind."""
 
 import copy
+import fractions
+import functools
 import itertools
 import random
 import unittest
@@ -21,6 +23,8 @@ TABLE_5001 = Table((
     (0, 1, 2, 3, 5, 6, 7, 8), (1, 2, 3, 4, 5, 6, 7, 8), (3, 4, 6, 7, 8), (0, 2, 4, 5, 7, 8),
 ))
 W = Table(((1, 2), (0, 1, 2), (0, 1, 2)))
+STUCK = Table(((0,), (0,), (0, 1, 2)))
+CUSTOMS = ("ahead", "near", "anew", "strict")
 
 
 def dealings(rows, drawn=()):
@@ -32,6 +36,63 @@ def dealings(rows, drawn=()):
         if thing not in drawn:
             found += dealings(rows, drawn + (thing,))
     return found
+
+
+def turns(size):
+    return list(itertools.permutations(range(size)))
+
+
+def choices(rows, turn, custom, drawn):
+    """The things of which the one draws who comes up when these things were drawn by the first ones of the turn."""
+    person = turn[len(drawn)]
+    left = [thing for thing in range(len(rows)) if thing not in drawn]
+    fitting = [thing for thing in left if thing in rows[person]]
+    others = [rows[who] for who in turn[len(drawn) + 1:]]
+    if custom == "strict":
+        return left
+    if custom == "anew":
+        return fitting
+    if custom == "near":
+        return [thing for thing in fitting if all(set(left) - {thing} & set(row) for row in others)]
+    taken = [dict(zip(turn, drawn + (thing,))) for thing in fitting]
+    return [thing for thing, held in zip(fitting, taken)
+            if any(all(one[who] == own for who, own in held.items()) for one in listed(rows))]
+
+
+@functools.lru_cache(maxsize=None)
+def listed(rows):
+    return tuple(dealings(rows))
+
+
+@functools.lru_cache(maxsize=None)
+def straight(rows, turn, custom):
+    """The dict from all dealings to the chances with which they come without beginning anew."""
+    found = {}
+    waiting = [((), fractions.Fraction(1))]
+    while waiting:
+        drawn, share = waiting.pop()
+        if len(drawn) == len(rows):
+            held = dict(zip(turn, drawn))
+            found[tuple(held[person] for person in range(len(rows)))] = share
+            continue
+        some = choices(rows, turn, custom, drawn)
+        waiting += [(drawn + (thing,), share / len(some)) for thing in some if thing in rows[turn[len(drawn)]]]
+    return found
+
+
+def plain_chances(rows, turn, custom):
+    """The dict from all dealings to their chances."""
+    found = straight(rows, turn, custom)
+    return {lot: share / sum(found.values()) for lot, share in found.items()}
+
+
+def pair(share):
+    """The fraction as the package has it."""
+    return share.numerator, share.denominator
+
+
+def with_dealing(tables):
+    return [table for table in tables if listed(table.rows)]
 
 
 def subsets(items):
@@ -111,6 +172,20 @@ def odd_tuples(right):
         (nested(lambda thing: (thing,), DEPTH - 1),) * len(right), (0,) * LONG, tuple(range(LONG)), [0] * LONG,
     ]
     return found
+
+
+def odd_turns(size):
+    """Things that are no turn, for a size of two or more."""
+    right = tuple(range(size))
+    found = [right[1:], right + (0,), right + (size,), right[:-1] + (0,), right[:-1] + (size,), right[:-1] + (-1,),
+             (False,) + right[1:], (None,) + right[1:], right[:1] + (True,) + right[2:], list(right), right * 2, ()]
+    return found + odd_tuples(right)
+
+
+def odd_customs():
+    """Things that are no custom."""
+    found = ["Ahead", "ahead ", " anew", "", "strict\n", b"ahead", ("ahead",), ["anew"], {"near": "near"}, "all"]
+    return found + [thing for thing in odd_numbers() if not (isinstance(thing, str) and thing in CUSTOMS)]
 
 
 class PlainTest(unittest.TestCase):

@@ -29,6 +29,18 @@ INTERFACE = {
         "open_things(table, standing, person)", "left_things(table, standing, person)",
         "open_people(table, standing, thing)", "known_of(table, standing, person)", "settled(table, standing)",
     ],
+    "chances": [
+        "chance(table, turn, custom, dealing)", "through(table, turn, custom)", "leaning(table, turn, custom)",
+        "thing_chance(table, turn, custom, person, thing)", "likeliest(table, turn, custom)",
+        "unlikeliest(table, turn, custom)", "spread(table, turn, custom)",
+    ],
+    "heights": ["heights(table, turn)", "is_heights(table, turn, bound, thing)"],
+    "even": [
+        "is_even(table, turn, custom)", "is_uneven(table, turn, custom, thing)", "is_fork(table, turn, thing)",
+        "always_even(table, custom)", "is_tilted(table, custom, thing)", "uneven(table, turn, custom)",
+        "fork(table, turn)", "tilted(table, custom)",
+    ],
+    "papers": ["paper(table)", "is_paper(table, thing)"],
 }
 
 

@@ -7,10 +7,8 @@ from fullorring.pieces import (
 )
 from fullorring.tables import Table, beside, full, names, ring, ties, with_tie, without_tie
 from plain import (
-    PlainTest, W, dealings, great_table, odd_numbers, odd_tuples, shuffled, small_tables, some_tables, subsets,
+    STUCK, PlainTest, W, dealings, great_table, odd_numbers, odd_tuples, shuffled, small_tables, some_tables, subsets,
 )
-
-STUCK = Table(((0,), (0,), (0, 1, 2)))
 
 
 def with_dealings(tables):

@@ -28,6 +28,23 @@ def is_renumbering(bound, thing):
     return is_numbers(bound, thing) and len(thing) == bound and len(set(thing)) == bound
 
 
+def is_pair(table, thing):
+    """Whether it is a tuple of the numbers of a person and of a thing."""
+    return isinstance(thing, tuple) and len(thing) == 2 and all([is_number(table.size, one) for one in thing])
+
+
+def is_tie(table, thing):
+    """Whether it is a tie."""
+    return is_pair(table, thing) and thing[1] in table.rows[thing[0]]
+
+
+def is_comer(table, thing):
+    """Whether it is a person or a thing that may come up."""
+    if not isinstance(thing, tuple) or len(thing) != 2 or not isinstance(thing[0], str):
+        return False
+    return thing[0] in ("person", "thing") and is_number(table.size, thing[1])
+
+
 def check_person(table, person):
     """Raise NoPerson for what is no number of a person."""
     if not is_number(table.size, person):

@@ -2,10 +2,9 @@
 
 from fullorring.checks import check_turn
 from fullorring.errors import NoFraction, TooMany
-from fullorring.matching import live_rows
+from fullorring.lots import steps_of
 from fullorring.pieces import live_of
 from fullorring.ratios import is_below, is_fraction, lowest
-from fullorring.standings import left_of
 
 MOST_PEOPLE = 9
 
@@ -15,10 +14,10 @@ def heights(table, turn):
     check_turn(table, turn)
     live_of(table)
     _check_people(table)
-    steps = _steps(table, turn)
+    steps = steps_of(table, turn)
     found = {}
     for lot in reversed(list(steps)):
-        found[lot] = _least_height(steps[lot], found)
+        found[lot] = _least_height(list(steps[lot].values()), found)
     return found
 
 
@@ -40,12 +39,12 @@ def is_heights(table, turn, bound, thing):
     if not is_fraction(bound):
         raise NoFraction()
     _check_people(table)
-    steps = _steps(table, turn)
+    steps = steps_of(table, turn)
     if not isinstance(thing, dict) or len(thing) != len(steps) or not all([lot in thing for lot in steps]):
         return False
     if not all([is_fraction(thing[lot]) for lot in steps]):
         return False
-    return all([_is_height(steps[lot], lot, thing) for lot in steps]) and not is_below(bound, thing[()])
+    return all([_is_height(list(steps[lot].values()), lot, thing) for lot in steps]) and not is_below(bound, thing[()])
 
 
 def _is_height(lots, lot, found):
@@ -59,17 +58,3 @@ def _is_height(lots, lot, found):
 def _check_people(table):
     if table.size > MOST_PEOPLE:
         raise TooMany(MOST_PEOPLE)
-
-
-def _steps(table, turn):
-    """The dict from the lots that can have been drawn, fewer things first, to those that come by one thing more."""
-    steps = {}
-    lots = [()]
-    for at in range(table.size):
-        rows = [table.rows[person] for person in turn[at:]]
-        for lot in lots:
-            row = live_rows([left_of(row, lot) for row in rows])[0]
-            steps[lot] = [tuple(sorted([*lot, thing])) for thing in row]
-        lots = sorted(set([one for lot in lots for one in steps[lot]]))
-    steps[tuple(range(table.size))] = []
-    return steps

@@ -1,6 +1,6 @@
 """The number of dealings, and the dealings by their numbers."""
 
-from fullorring.checks import is_number
+from fullorring.checks import is_number, is_pair
 from fullorring.counting import dealings_of, many_of
 from fullorring.dealings import is_dealing
 from fullorring.errors import NoDealing, NoLot, NoNumber, TooMany
@@ -64,11 +64,7 @@ def many_with(table, lot):
 
 
 def _is_lot(table, thing):
-    return isinstance(thing, (list, tuple)) and all([_is_pair(table, one) for one in thing])
-
-
-def _is_pair(table, thing):
-    return isinstance(thing, tuple) and len(thing) == 2 and all([is_number(table.size, one) for one in thing])
+    return isinstance(thing, (list, tuple)) and all([is_pair(table, one) for one in thing])
 
 
 def all_dealings(table):

@@ -1,6 +1,6 @@
 """Papers, which show that a table is always even looking ahead."""
 
-from fullorring.checks import is_ascending, is_number, is_numbers
+from fullorring.checks import is_ascending, is_numbers, is_tie
 from fullorring.even import always_even
 from fullorring.pieces import filled_lot, idle_ties, is_filled_lot, live_of, piece_kinds, pieces, round_of
 from fullorring.tables import ties
@@ -33,7 +33,7 @@ def is_paper(table, thing):
         return False
     if not all([_is_part(table.size, part) for part in parts]) or not _are_all_once(table.size, parts):
         return False
-    if not all([_is_tie(table, tie) and is_filled_lot(table, tie[0], tie[1], idle[tie]) for tie in idle]):
+    if not all([is_tie(table, tie) and is_filled_lot(table, tie[0], tie[1], idle[tie]) for tie in idle]):
         return False
     steps = [tie for part in parts for tie in _ties_of(part)]
     own = ties(table)
@@ -81,9 +81,3 @@ def _ties_of(part):
         return [(person, thing) for person in people for thing in things]
     # Between a person and the next one stands the thing of both.
     return list(zip(people, things)) + list(zip(people[1:] + people[:1], things))
-
-
-def _is_tie(table, thing):
-    if not isinstance(thing, tuple) or len(thing) != 2 or not all([is_number(table.size, one) for one in thing]):
-        return False
-    return thing[1] in table.rows[thing[0]]

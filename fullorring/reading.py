@@ -25,7 +25,7 @@ def read_dealing(text):
     """The tuple of a text, with None for `-`."""
     _check_string(text)
     words = text.split(" ")
-    if not all([word == "-" or _is_number_word(word) for word in words]):
+    if not all([word == "-" or is_number_word(word) for word in words]):
         raise BadText(1)
     return tuple([None if word == "-" else int(word) for word in words])
 
@@ -36,14 +36,14 @@ def _check_string(text):
 
 
 def _is_line(line):
-    return line == "-" or all([_is_number_word(word) for word in line.split(" ")])
+    return line == "-" or all([is_number_word(word) for word in line.split(" ")])
 
 
 def _read_line(line):
     return () if line == "-" else tuple([int(word) for word in line.split(" ")])
 
 
-def _is_number_word(word):
+def is_number_word(word):
     """Whether it is a number of at most 4 figures without needless zeros."""
     # Not isdigit: that takes figures of other scripts, too.
     if not 1 <= len(word) <= MOST_FIGURES or not all([sign in "0123456789" for sign in word]):

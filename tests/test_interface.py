@@ -41,6 +41,18 @@ INTERFACE = {
         "fork(table, turn)", "tilted(table, custom)",
     ],
     "papers": ["paper(table)", "is_paper(table, thing)"],
+    "books": [
+        "next_comer(table, book, history)", "book_chance(table, book, dealing)", "book_history(table, book, dealing)",
+        "book_even(table, book)", "book_uneven(table, book)", "turn_book(table, turn)",
+    ],
+    "booktexts": ["book_text(book)", "read_book(table, text)"],
+    "plans": [
+        "plan(table)", "people_plan(table)", "plan_bar(table)", "is_plan(table, thing)", "is_plan_bar(table, thing)",
+    ],
+    "tickets": [
+        "ticket_chance(table, turn, tickets, dealing)", "even_tickets(table, turn)", "twist(table, turn)",
+        "is_even_tickets(table, turn, thing)", "is_twist(table, turn, thing)",
+    ],
 }
 
 

@@ -5,7 +5,7 @@ are open then for the person who comes up, and the ratio is that of the tickets 
 with which all dealings behind them are alike likely: that of the numbers of dealings behind them.
 """
 
-from math import gcd, lcm
+from math import lcm
 
 from fullorring.checks import check_turn, is_integer, is_number
 from fullorring.dealings import is_dealing
@@ -133,13 +133,11 @@ def _least_numbers(tree):
     for root in tree:
         if tree[root][0] == root:
             shares = {thing: share for thing, (start, share, _) in tree.items() if start == root}
-            bottom = 1
-            for _, below in shares.values():
-                bottom = lcm(bottom, below)
-            shared = 0
-            for top, below in shares.values():
-                shared = gcd(shared, top * bottom // below)
-            numbers.update({thing: top * bottom // below // shared for thing, (top, below) in shares.items()})
+            # The share of the root is 1, so that what the bottoms ask for is also all that is needed.
+            least = 1
+            for _, bottom in shares.values():
+                least = lcm(least, bottom)
+            numbers.update({thing: top * least // bottom for thing, (top, bottom) in shares.items()})
     return numbers
 
 

@@ -52,7 +52,8 @@ def wrong_books():
         ["if", ("after", 1), NAMED, NAMED], ("if", ["after", 1], NAMED, NAMED), ("if", ("after", 1), ["named"], NAMED),
         ("if", None, NAMED, NAMED), ("if", ("after", 1), None, NAMED), ("if", ("after", 1), NAMED, "named"),
         ("else",), ("else", NAMED), ("else", NAMED, NAMED, NAMED), ("else", NAMED, None), ("else", None, NAMED),
-        ["else", NAMED, NAMED], ("else", ("after", 1), NAMED), ("else", NAMED, ("not", NAMED)), ("else", (), NAMED),
+        ("or", ("after", 1), NAMED, NAMED), ("or", NAMED, NAMED), ["else", NAMED, NAMED], ("else", ("after", 1), NAMED),
+        ("else", NAMED, ("not", NAMED)), ("else", (), NAMED),
         deep_book(16), deep_book(39), ("if", deep_condition(15), NAMED, NAMED), book_of(101), book_of(102), book_of(999),
         ("if", deep_condition(38), NAMED, NAMED), full(4), ("else", full(2), NAMED), ("else", NAMED, len),
         ("after", 1), ("has", 1, 1), ("not", ("after", 1)), ("person", 1),
@@ -160,6 +161,14 @@ class ChancesTest(PlainTest):
             self.assertIs(found.__class__, tuple)
             self.assertLess(ways[found[0]][1], ways[found[1]][1])
             self.assertEqual(book_uneven(table, book), found)
+
+    def test_what_adds_up_alike_is_not_alike_likely(self):
+        table = Table(((1, 3), (0, 2, 3), (0, 1, 2, 4), (1, 2, 3), (1, 4)))
+        self.check_book(table, NAMED)
+        self.assert_flag(False, book_even(table, NAMED))
+        table = Table(((0, 1, 3, 4), (1, 3, 4), (0, 1, 2, 3), (0, 1, 2, 4), (0, 2, 3, 4)))
+        self.check_book(table, ("most",))
+        self.assert_flag(False, book_even(table, ("most",)))
 
     def test_examples(self):
         self.assert_flag(True, book_even(N4, NAMED))

@@ -153,6 +153,9 @@ class JudgingTest(PlainTest):
         for thing in odd_numbers():
             self.assert_flag(False, self.is_right((first, second, thing), self.IDLE), thing)
             self.assert_flag(False, self.is_right((first, second, (thing, (5,), (5,))), self.IDLE), thing)
+        self.assert_flag(True, is_paper(names(2), ((("full", (0,), (1,)), ("full", (1,), (0,))), {})))
+        for word in ("ring", "", "other", None):
+            self.assert_flag(False, is_paper(names(2), (((word, (0, 1), (0, 1)), ("full", (1,), (0,))), {})))
         for thing in odd_tuples((3, 4)):
             self.assert_flag(False, self.is_right((first, ("full", thing, (3, 4)), third), self.IDLE), thing)
             self.assert_flag(False, self.is_right((first, ("full", (3, 4), thing), third), self.IDLE), thing)

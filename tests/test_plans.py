@@ -130,6 +130,13 @@ class PlanTest(PlainTest):
                 self.assert_flag(True, is_plan(table, found))
                 self.assertEqual({kind for kind, _ in found.values()}, {"person"})
 
+    def test_some_choices_can_be_planned_and_others_not(self):
+        table = Table(((0, 2, 3), (0, 1, 2, 3, 4, 5), (3, 4), (0, 1, 4), (1, 2, 3, 4), (1, 3, 4, 5)))
+        self.assertFalse(is_planned(table))
+        self.assertTrue(is_planned(table, KINDS, (None, None, 3, None, None, None)))
+        self.assertTrue(is_plain_bar(table, plan_bar(table)))
+        self.assert_flag(True, is_plan_bar(table, plan_bar(table)))
+
     def test_a_turn_that_is_even_is_a_plan(self):
         for table in with_dealing(all_tables(3)[::9] + some_tables(4, 30)):
             for turn in turns(table.size)[::5]:

@@ -273,6 +273,25 @@ class TwistTest(PlainTest):
                     self.assert_flag(False, is_twist(table, turn, (person, (first,) + steps[1:])))
         self.assertGreater(found, 5)
 
+    def test_ways_that_meet(self):
+        """Tables in which the way round goes over more than the link that does not fit and one more."""
+        for rows, turn in [
+            (((0, 1, 3, 4), (0, 1, 2, 3), (1, 2, 3, 4), (0, 1, 2, 3, 4), (1, 2, 3, 4)), (4, 3, 2, 1, 0)),
+            (((0, 1, 2, 4), (2, 3, 4), (1, 2, 3), (1, 2, 3, 4), (0, 1, 2, 3)), (4, 3, 2, 1, 0)),
+            (((0, 1, 2, 4), (0, 1, 2, 3), (0, 1, 2, 3, 4), (0, 1, 2, 3, 4), (0, 1, 2, 3, 4)), (4, 3, 2, 1, 0)),
+        ]:
+            person, steps = twist(Table(rows), turn)
+            self.assertTrue(is_plain_twist(Table(rows), turn, person, steps), (rows, steps))
+            self.assertEqual(len({one for _, one, _ in steps}), len(steps))
+            self.assert_flag(True, is_twist(Table(rows), turn, (person, steps)))
+
+    def test_standings_that_are_not_sound(self):
+        for standing in ((None, 0, None), (None, 1, None), (None, 2, None)):
+            for one, other in ((0, 1), (1, 2), (0, 2), (2, 0)):
+                steps = ((standing, one, other), (standing, other, one))
+                self.assert_flag(False, is_twist(IDLE, TURN, (0, steps)))
+                self.assert_flag(False, is_twist(IDLE, TURN, (2, steps)))
+
     def test_where_there_are_tickets_there_is_none(self):
         steps = (((None, None, None), 0, 1), ((None, None, None), 1, 0))
         self.assert_flag(False, is_twist(W, TURN, (1, steps)))

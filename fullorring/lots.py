@@ -14,10 +14,12 @@ def steps_of(table, turn):
     lots = [()]
     for at in range(table.size):
         rows = [table.rows[person] for person in turn[at:]]
+        behind = []
         for lot in lots:
-            row = live_rows([left_of(row, lot) for row in rows])[0]
-            steps[lot] = {thing: tuple(sorted([*lot, thing])) for thing in row}
-        lots = sorted(set([one for lot in lots for one in steps[lot].values()]))
+            choices = live_rows([left_of(row, lot) for row in rows])[0]
+            steps[lot] = {thing: tuple(sorted([*lot, thing])) for thing in choices}
+            behind.extend(list(steps[lot].values()))
+        lots = sorted(set(behind))
     steps[tuple(range(table.size))] = {}
     return steps
 

@@ -6,7 +6,7 @@ from standings to a comer with whom a plan can go on, or None; it is filled with
 
 from fullorring.checks import is_comer, is_integer
 from fullorring.counting import dealings_of
-from fullorring.errors import Stuck, TooMany
+from fullorring.errors import TooMany
 from fullorring.pieces import live_of
 from fullorring.standings import with_drawn
 

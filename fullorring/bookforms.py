@@ -1,6 +1,6 @@
 """What a book is."""
 
-from fullorring.checks import is_comer, is_integer, is_number
+from fullorring.checks import is_comer, is_integer, is_number, is_renumbering
 
 MOST_COMERS = 24
 MOST_TUPLES = 100
@@ -57,6 +57,12 @@ def _inside_condition(table, word, parts):
 
 
 def _is_row(table, comers):
-    if not isinstance(comers, tuple) or len(comers) > MOST_COMERS:
+    if not isinstance(comers, tuple) or not all([is_comer(table, comer) for comer in comers]):
         return False
-    return all([is_comer(table, comer) for comer in comers])
+    return len(comers) <= MOST_COMERS or _is_turn(table, comers)
+
+
+def _is_turn(table, comers):
+    """Whether they are all people, each once: the book of a turn is one, however many they are."""
+    people = tuple([number for kind, number in comers if kind == "person"])
+    return len(people) == len(comers) and is_renumbering(table.size, people)

@@ -1,6 +1,6 @@
 """Books as texts, and out of them."""
 
-from fullorring.bookforms import MOST_COMERS, MOST_TUPLES, is_book
+from fullorring.bookforms import MOST_TUPLES, is_book
 from fullorring.errors import BadText
 from fullorring.reading import is_number_word
 
@@ -52,7 +52,7 @@ def _parsed(words):
 
 def _many_parts(word, held):
     if word == "row" and held and isinstance(held[-1], int):
-        return 1 + min(held[-1], MOST_COMERS + 1)
+        return 1 + held[-1]
     return MANY_PARTS.get(word, 0)
 
 

@@ -6,8 +6,7 @@ from fullorring.checks import check_custom, check_turn, is_number, is_renumberin
 from fullorring.dealings import dealing, is_dealing
 from fullorring.pieces import live_of, piece_kinds, pieces
 from fullorring.spreading import bottoms_of, spread_of
-from fullorring.standings import is_sound, left_of, many_after, open_things, rows_behind, with_drawn
-from fullorring.tables import table_of
+from fullorring.standings import is_sound, left_of, many_after, open_things, table_behind, with_drawn
 from fullorring.walks import CUSTOMS, bottom_of
 
 ALWAYS_CUSTOMS = ("ahead", "anew")
@@ -131,17 +130,13 @@ def tilted(table, custom):
 
 def _step_to_uneven(table, standing, custom):
     """A person and an open thing behind which what is left is not always even, or None."""
-    for person, row in enumerate(live_of(_table_behind(table, standing))):
+    for person, row in enumerate(live_of(table_behind(table, standing))):
         if standing[person] is not None:
             continue
         for thing in row:
-            if not always_even(_table_behind(table, with_drawn(standing, person, thing)), custom):
+            if not always_even(table_behind(table, with_drawn(standing, person, thing)), custom):
                 return person, thing
     return None
-
-
-def _table_behind(table, standing):
-    return table_of(tuple([tuple(row) for row in rows_behind(table, standing)]))
 
 
 def _tilted_at(table, custom, standing, people):
@@ -166,7 +161,7 @@ def _tilted_in(table, custom, standing, turn):
     person = [who for who in turn if standing[who] is None][0]
     found = {}
     for thing in open_things(table, standing, person):
-        lot = dealing(_table_behind(table, with_drawn(standing, person, thing)))
+        lot = dealing(table_behind(table, with_drawn(standing, person, thing)))
         found[bottom_of(table, turn, custom, lot)] = lot
     least = min(list(found))
     greatest = max(list(found))

@@ -4,6 +4,7 @@ from fullorring.checks import check_person, check_thing, is_number
 from fullorring.counting import many_of
 from fullorring.errors import NoPerson, NoStanding, NoThing
 from fullorring.matching import live_rows
+from fullorring.tables import table_of
 
 
 def is_standing(table, thing):
@@ -27,6 +28,11 @@ def rows_behind(table, standing):
         left_of(row, standing) if own is None else [own]
         for row, own in zip(table.rows, standing)
     ]
+
+
+def table_behind(table, standing):
+    """The table of these rows."""
+    return table_of(tuple([tuple(row) for row in rows_behind(table, standing)]))
 
 
 def left_of(row, standing):

@@ -4,6 +4,9 @@ import importlib
 import inspect
 import unittest
 
+from fullorring.desk import Desk
+from fullorring.kinds import Kinds
+from fullorring.live import Draw
 from fullorring.tables import Table
 from plain import PlainTest
 
@@ -53,6 +56,43 @@ INTERFACE = {
         "ticket_chance(table, turn, tickets, dealing)", "even_tickets(table, turn)", "twist(table, turn)",
         "is_even_tickets(table, turn, thing)", "is_twist(table, turn, thing)",
     ],
+    "exchanging": [
+        "exchanges(table, dealing)", "islands(table)", "exchanged(table, dealing, steps)",
+        "steps_between(table, one, other)", "is_carried(table)", "parted(table)", "stirred(table, chances)",
+    ],
+    "cures": [
+        "is_cure(table, custom, thing)", "fewest_cure(table, custom)", "cures(table, custom)",
+        "cheapest_cure(table, custom, prices)", "wish_cure(table, custom, person, thing)",
+    ],
+    "knowing": [
+        "told_after(table, turn, dealing)", "latest(table, turn)", "earliest(table, turn)",
+        "mean_told(table, turn, custom)", "quickest(table)", "telling(table)", "is_telling(table, people)",
+    ],
+    "kinds": [
+        "Kinds(people, things, allowed)", "kinds_table(kinds)", "kinds_can(kinds)", "kinds_even(kinds, custom)",
+        "families_even(sizes, custom)", "kinds_short(kinds)", "kinds_pieces(kinds)", "kinds_many(kinds, modulus)",
+        "families_many(sizes, modulus)", "families(sizes)",
+    ],
+    "copies": [
+        "outcome(table, looks, dealing)", "many_outcomes(table, looks)",
+        "outcome_chance(table, looks, turn, custom, outcome)", "weights(table, looks)",
+        "outcomes_even(table, looks, turn, custom)", "copies_alike(table, looks)",
+    ],
+    "live": ["Draw(table)"],
+    "strangers": [
+        "drawer_chances(table, turn, sides, pick)", "drawer_even(table, turn, sides, pick)", "even_sides(table, turn)",
+    ],
+    "desk": ["Desk()"],
+}
+METHODS = {
+    Table: ["__init__", "__eq__"],
+    Kinds: ["__init__", "__eq__"],
+    Draw: [
+        "open_for(self, comer)", "draw(self, comer, choice)", "strike(self, person, thing)",
+        "allow(self, person, thing)", "standing(self)", "history(self)", "table(self)", "many(self)", "settled(self)",
+        "rest_even(self)", "back(self)", "deeds(self)", "copy(self)", "trying(self, action)",
+    ],
+    Desk: ["tell(self, line)", "undoable(self)"],
 }
 
 
@@ -67,9 +107,12 @@ class InterfaceTest(PlainTest):
                 self.assertEqual(thing.__module__, "fullorring." + part, line)
                 self.assertEqual(name + str(inspect.signature(thing)), line)
 
-    def test_table_has_its_methods_itself(self):
-        self.assertIn("__eq__", vars(Table))
-        self.assertIn("__init__", vars(Table))
+    def test_classes_have_their_methods_themselves(self):
+        for kind, told in METHODS.items():
+            for line in told:
+                method = vars(kind)[line.partition("(")[0]]
+                if "(" in line:
+                    self.assertEqual(method.__name__ + str(inspect.signature(method)), line)
 
 
 if __name__ == "__main__":

@@ -8,6 +8,9 @@ import random
 import unittest
 
 from fullorring import errors
+from fullorring.desk import Desk
+from fullorring.kinds import Kinds
+from fullorring.live import Draw
 from fullorring.tables import Table, beside, full, names, renumbered, ring, with_tie
 
 DEPTH = 40
@@ -163,6 +166,7 @@ def odd_numbers():
         memoryview(b"01"), (), (0,), (0, 0), [], [0], [[0]], {}, {0: 0}, {(0, 0): 1}, range(0), range(1), range(3),
         len, int, odd_numbers, lambda: 0, slice(0, 1), ..., NotImplemented, object(), iter([0]), enumerate([0]),
         errors.NoPerson(), errors.NoPerson, Table, Table(((0,),)), full(3), ValueError("x"), unittest,
+        Kinds((1,), (1,), ((0,),)), Draw(Table(((0,),))), Desk(), Kinds, Draw, Desk,
         nested(lambda thing: [thing]), nested(lambda thing: (thing,)), nested(lambda thing: {0: thing}),
         nested(lambda thing: (0, thing)), (0,) * LONG, [0] * LONG, tuple(range(LONG)), {at: at for at in range(LONG)},
     ]
@@ -174,6 +178,7 @@ def odd_tuples(right):
         None, True, False, 0, 1, -1, 10 ** 59, "", "0 1 2", "012", b"", b"\x00\x01\x02", bytearray(b"\x00\x01"), {},
         dict(enumerate(right)), dict.fromkeys(right), range(len(right)), len, tuple, lambda: right, ..., slice(0, 1),
         NotImplemented, object(), iter(right), errors.NoLot(), Table(((0,),)), full(3), (full(3),) * len(right),
+        Kinds((1,), (1,), ((0,),)), Draw(Table(((0,),))), Desk(), (Kinds((1,), (1,), ((0,),)),) * len(right),
         list(right), list(right) + [0], [right], (right,), tuple(str(one) for one in right),
         tuple([one] for one in right), tuple((one,) for one in right), tuple({0: one} for one in right),
         (True,) * len(right), (False,) * len(right), (-1,) * len(right), (10 ** 59,) * len(right),

@@ -150,6 +150,17 @@ class CodeTest(unittest.TestCase):
                         if isinstance(sign, (ast.Is, ast.IsNot)):
                             self.assertTrue(isinstance(other, ast.Constant) and other.value in (None, True, False))
 
+    def test_powers_and_tries(self):
+        for path, tree in trees():
+            for node in ast.walk(tree):
+                if isinstance(node, ast.BinOp) and isinstance(node.op, ast.Pow):
+                    self.assertIsInstance(node.right, ast.Constant, (path, node.lineno))
+                if isinstance(node, ast.Try):
+                    self.assertEqual(node.handlers, [], (path, node.lineno))
+                    for line in node.finalbody:
+                        self.assertIsInstance(line, ast.Assign, (path, line.lineno))
+                        self.assertIsInstance(line.value, ast.Name, (path, line.lineno))
+
     def test_names(self):
         known = set(dir(builtins))
         for path, tree in trees():

@@ -117,9 +117,9 @@ def parted(table):
 
 def stirred(table, chances):
     """The chances behind one stirring."""
+    # Where there is no dealing, there are no chances that come to 1: it cannot come to Stuck.
     if not _is_chances(table, chances):
         raise NoChances()
-    live_of(table)
     _check_few(table)
     return {lot: _chance_behind(table, chances, lot) for lot in chances}
 

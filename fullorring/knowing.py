@@ -58,19 +58,19 @@ def mean_told(table, turn, custom):
 
 def quickest(table):
     """The pair of the least latest of all turns, and the least turn that has it."""
-    live_of(table)
+    live = live_of(table)
     if table.size > MOST_PEOPLE:
         raise TooMany(MOST_PEOPLE)
     # What the first people of a turn tell does not hang on the order in which they come up.
-    first = _least_telling(table)
+    first = _least_telling(live)
     return len(first), first + tuple([person for person in range(table.size) if person not in first])
 
 
 def telling(table):
     """The pair of the least number of people who always tell the whole dealing, and the least such people."""
-    live_of(table)
+    live = live_of(table)
     _check_few_dealings(table)
-    people = _least_telling(table)
+    people = _least_telling(live)
     return len(people), people
 
 
@@ -93,9 +93,8 @@ def _places_in(lot, people):
     return [at for at, person in enumerate(lot) if person in people]
 
 
-def _least_telling(table):
-    """The least ascending tuple of as few people as can be who always tell the whole dealing."""
-    live = live_of(table)
+def _least_telling(live):
+    """The least ascending tuple of as few people as can be who always tell the whole dealing of live rows."""
     found = []
     for lot in groups(live):
         found.extend([lot[at] for at in _least_telling_of(rows_of(live, lot))])
@@ -103,7 +102,7 @@ def _least_telling(table):
 
 
 def _least_telling_of(rows):
-    """The least such people of live rows."""
+    """The same for the rows of one piece."""
     rounds = []
     for many in range(len(rows)):
         found = _telling_of(rows, many, rounds)

@@ -44,10 +44,9 @@ class Draw:
         table, history = self.now
         check_person(table, person)
         check_thing(table, thing)
-        if thing not in table.rows[person] or (person, thing) in history:
-            raise NotOpen()
         without = without_tie(table, person, thing)
-        if not is_sound(without, self.standing()):
+        # A tie that was drawn is missed in the standing, which is none of the table without it.
+        if thing not in table.rows[person] or not is_sound(without, self.standing()):
             raise NotOpen()
         self._go_on(without, history)
 

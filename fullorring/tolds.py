@@ -52,50 +52,34 @@ def _add(tolds, number, share):
 
 
 def loose_people(rows, people):
-    """As few people as can be whose things can go round among them while these people keep theirs, or None.
+    """People whose things can go round among them while these people keep theirs, or None.
 
     The rows are live; it is None if the things of these people always tell the whole dealing.
     """
     seen = set()
-    best = None
     waiting = [rows]
     while waiting:
         live = waiting.pop()
-        open_ones = [person for person in people if len(live[person]) > 1]
-        if not open_ones:
-            best = _fewer(best, _shortest_round(live))
-            if best is not None and len(best) == 2:
-                return best
+        drawing = [person for person in people if len(live[person]) > 1]
+        if not drawing:
+            loose = [person for person, row in enumerate(live) if len(row) > 1]
+            if loose:
+                return _round_through(live, loose[0])
             continue
-        for thing in live[open_ones[0]]:
-            after = live_rows(narrowed(live, open_ones[0], thing))
-            # What a thing was drawn by does not matter for the others: those who are settled are left out.
+        for thing in live[drawing[0]]:
+            after = live_rows(narrowed(live, drawing[0], thing))
+            # Which things the settled ones hold does not matter for the others.
             key = tuple([() if len(row) == 1 else tuple(row) for row in after])
             if key not in seen:
                 seen.add(key)
                 waiting.append(after)
-    return best
+    return None
 
 
-def _fewer(one, other):
-    if one is None or other is None:
-        return other if one is None else one
-    return one if len(one) <= len(other) else other
-
-
-def _shortest_round(live):
-    """As few people as can be whose things can go round among them, or None if each has one thing."""
+def _round_through(live, start):
+    """As few people as can be, this one among them, whose things can go round among them."""
     held = matched(live)
     owner = owners(held)
-    best = None
-    for start, row in enumerate(live):
-        if len(row) > 1:
-            best = _fewer(best, _round_through(live, held, owner, start))
-    return best
-
-
-def _round_through(live, held, owner, start):
-    """The people of a shortest round through a person who has more than one thing."""
     ways = {owner[thing]: (start,) for thing in live[start] if thing != held[start]}
     waiting = list(ways)
     while start not in ways:

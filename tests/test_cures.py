@@ -2,6 +2,7 @@
 
 import copy
 import functools
+import itertools
 import random
 import unittest
 
@@ -98,6 +99,19 @@ class FewestTest(PlainTest):
                     for tie in lot:
                         less = tuple(one for one in lot if one != tie)
                         self.assert_flag(False, is_cure(table, custom, less))
+
+    def test_each_of_them_once(self):
+        """Tables in which more than one way of striking leads to the same cure."""
+        for rows, custom, fewest, many in [
+            (((0, 3, 4), (0, 1, 2, 4), (2, 4), (2, 3), (1, 3, 4)), "anew", 2, 19),
+            (((0, 2, 5), (1,), (0, 2, 3), (2, 3, 4, 5), (0, 3, 4, 5), (3, 5)), "anew", 3, 40),
+            (((0, 3), (1, 5, 6), (0, 1, 2), (2, 3, 5, 6), (4, 5), (2, 5), (2, 6)), "anew", 2, 22),
+        ]:
+            table = Table(rows)
+            found = cures(table, custom)
+            self.assertEqual((fewest_cure(table, custom), len(found)), (fewest, many))
+            right = [lot for lot in itertools.combinations(ties(table), fewest) if is_cure(table, custom, lot)]
+            self.assertEqual(found, right)
 
     def test_twenty_ties_and_twenty_one(self):
         self.assertEqual(len(ties(TIES_20)), 20)

@@ -174,6 +174,19 @@ class TellingTest(PlainTest):
         for people in ((), (0,), (1,), (0, 1), (0, 1, 2)):
             self.assert_flag(len(people) >= 1, is_telling(ring(3), people))
 
+    def test_the_least_of_many_that_tell(self):
+        for rows, number, people in [
+            (((0, 1, 2, 3), (3, 4), (1, 2, 3, 4), (0, 1), (0, 1, 2)), 3, (0, 1, 4)),
+            (((0, 3), (5,), (0, 1, 4, 6), (0, 1, 2, 3, 5, 6), (3, 4, 5, 6), (0, 2, 5), (0, 1, 2, 3, 4, 6)), 3, (2, 3, 6)),
+            (((0, 2, 3, 5), (4, 5), (0, 1, 2, 5), (1, 4), (1, 2, 3, 4), (0, 3)), 3, (0, 1, 4)),
+            (((0, 1, 2, 3, 4), (0, 2, 4, 5), (0, 1, 2), (0, 1), (1, 3, 4), (0, 1, 4, 5)), 4, (0, 1, 2, 5)),
+        ]:
+            right = [lot for lot in subsets(range(len(rows))) if is_plain_telling(rows, lot)]
+            self.assertEqual(min((len(lot), lot) for lot in right), (number, people))
+            self.assertEqual(telling(Table(rows)), (number, people))
+            rest = tuple(person for person in range(len(rows)) if person not in people)
+            self.assertEqual(quickest(Table(rows)), (number, people + rest))
+
     def test_eight_people_and_nine(self):
         self.assertEqual(quickest(full(8)), (7, tuple(range(8))))
         self.assertEqual(quickest(names(8)), (7, tuple(range(8))))

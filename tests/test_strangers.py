@@ -215,6 +215,14 @@ class SidesTest(PlainTest):
         self.assertIn(None, found)
         self.assertLessEqual(max(sides for sides in found if sides), 5000)
 
+    def test_near_five_thousand(self):
+        for rows, sides in [
+            (((0, 1, 3, 4), (1, 2, 3, 4, 5), (0, 1, 2, 3, 4, 5), (1, 2, 3, 4, 5), (2, 4, 5), (2, 3, 4, 5)), 4968),
+            (((0, 5), (0, 1, 5), (1, 2, 4, 5), (0, 1, 2, 3), (0, 1, 2, 3, 4, 5), (0, 1, 3, 4, 5)), None),
+        ]:
+            self.assertEqual(even_sides(Table(rows), (0, 1, 2, 3, 4, 5)), sides)
+            self.assertEqual(self.plain_sides(Table(rows), (0, 1, 2, 3, 4, 5)), sides)
+
     def test_is_least(self):
         """Of all drawers of fewer sides none is even, where what is behind the first draw is sure."""
         table = Table(((0, 1), (0, 1, 2), (1, 2)))
